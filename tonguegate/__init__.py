@@ -1,0 +1,1 @@
+"""Tonguegate: worths handed to another tongue and back."""
