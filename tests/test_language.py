@@ -27,9 +27,18 @@ BUILTINS = (
     "OverflowError", "RuntimeError", "NotImplementedError", "AttributeError", "StopIteration",
 )
 METHODS = ("__init__", "__eq__", "__repr__", "__str__", "__len__")
+# Methods of builtin values, and attributes of no class of the package.
+BUILTIN_METHODS = (
+    "append", "clear", "copy", "count", "endswith", "extend", "find", "get", "index", "insert", "isalnum", "isalpha",
+    "isdigit", "islower", "isspace", "isupper", "items", "join", "keys", "ljust", "lower", "lstrip", "partition", "pop",
+    "remove", "replace", "reverse", "rfind", "rjust", "rpartition", "rsplit", "rstrip", "setdefault", "split",
+    "splitlines", "startswith", "strip", "update", "upper", "values", "zfill", "bit_length", "decode", "encode",
+)
 BARRED_NODES = (
     ast.With, ast.Match, ast.Global, ast.Nonlocal, ast.Yield, ast.YieldFrom, ast.AsyncFunctionDef, ast.AsyncFor,
     ast.AsyncWith, ast.Await, ast.Import, ast.GeneratorExp, ast.NamedExpr, ast.Div, ast.MatMult, ast.AnnAssign,
+    # The package creates bytes, so that a sign of the hundredth would need a left side that is surely a number.
+    ast.Mod,
 )
 
 
@@ -173,6 +182,39 @@ class Form(unittest.TestCase):
                 self.assertEqual(node.decorator_list, [], node.name)
                 for inner in node.body:
                     self.assertIsInstance(inner, (ast.FunctionDef, ast.Expr, ast.Pass), node.name)
+
+    def test_methods_and_attributes(self):
+        methods, attributes, read = set(), set(), set()
+        for tree in trees().values():
+            for node in ast.walk(tree):
+                if isinstance(node, ast.ClassDef):
+                    methods |= {inner.name for inner in node.body if isinstance(inner, ast.FunctionDef)}
+                elif isinstance(node, ast.Attribute) and isinstance(node.ctx, ast.Store):
+                    attributes.add(node.attr)
+                elif isinstance(node, ast.Attribute):
+                    read.add(node.attr)
+        self.assertEqual(methods & attributes, set())
+        self.assertEqual(read - methods - attributes - set(BUILTIN_METHODS), set())
+        for name in attributes | methods - set(METHODS):
+            for builtin in (str, int, list, dict, set, bytes, tuple):
+                self.assertFalse(hasattr(builtin, name), name)
+
+    def test_locals_are_named_unlike_imports_and_classes(self):
+        for name, tree in trees().items():
+            imports = [node for node in tree.body if isinstance(node, ast.ImportFrom)]
+            taken = {alias.asname or alias.name for node in imports for alias in node.names}
+            taken |= {node.name for node in tree.body if isinstance(node, ast.ClassDef)}
+            for node in ast.walk(tree):
+                for one, binds in self.names_in(node):
+                    self.assertFalse(binds and one in taken, f"{name}: {one}")
+
+    def test_counters_and_pairs_are_gone_through_at_once(self):
+        for name, tree in trees().items():
+            for node in ast.walk(tree):
+                if isinstance(node, (ast.Assign, ast.Return)) and isinstance(node.value, ast.Call):
+                    called = node.value.func
+                    word = called.id if isinstance(called, ast.Name) else getattr(called, "attr", "")
+                    self.assertNotIn(word, ("zip", "enumerate", "reversed", "range", "items", "keys", "values"), name)
 
     def names_in(self, node):
         """What a node names, and whether it binds that name."""
