@@ -379,15 +379,13 @@ def new_part(chance, deed, kind, path):
 
 
 def do_by_chance(case, chance, keeper, model):
-    """Do one deed by chance with the keeper and the model, and look that both tell the same: the deed, what was told."""
+    """Do one deed by chance with the keeper and the model, and look that both tell the same."""
     deed, handed = some_deed(chance, model)
     try:
         expected = getattr(model, deed)(*handed)
     except GateError as error:
         case.assert_refused(type(error), getattr(keeper, deed), *handed)
-        expected = error
     else:
         case.assertEqual(getattr(keeper, deed)(*handed), expected)
     case.assertEqual(keeper.standing(), sorted(model.things))
     case.assertEqual(plain_rows(keeper), model.rows)
-    return deed, handed, expected

@@ -216,6 +216,31 @@ class Form(unittest.TestCase):
                     word = called.id if isinstance(called, ast.Name) else getattr(called, "attr", "")
                     self.assertNotIn(word, ("zip", "enumerate", "reversed", "range", "items", "keys", "values"), name)
 
+    def test_errors_are_raised_on_the_spot(self):
+        for name, tree in trees().items():
+            for node in ast.walk(tree):
+                if isinstance(node, ast.Raise) and node.exc is not None:
+                    self.assertIsInstance(node.exc, ast.Call, name)
+                    self.assertIsInstance(node.exc.func, ast.Name, name)
+
+    def test_no_text_stands_in_the_braces_of_another(self):
+        for name, tree in trees().items():
+            for node in ast.walk(tree):
+                if isinstance(node, ast.FormattedValue):
+                    inner = [one for one in ast.walk(node.value) if isinstance(one, (ast.JoinedStr, ast.Constant))]
+                    self.assertFalse([one for one in inner if isinstance(getattr(one, "value", ""), str)], name)
+
+    def test_tables_are_only_read_where_they_stand(self):
+        for name, tree in trees().items():
+            tables = {node.targets[0].id for node in tree.body
+                      if isinstance(node, ast.Assign) and isinstance(node.value, (ast.Dict, ast.List))}
+            for node in ast.walk(tree):
+                for child in ast.iter_child_nodes(node):
+                    if isinstance(child, ast.Name) and child.id in tables and isinstance(child.ctx, ast.Load):
+                        read = isinstance(node, ast.Attribute) and node.attr == "get"
+                        read = read or (isinstance(node, ast.Subscript) and isinstance(node.ctx, ast.Load) and node.value is child)
+                        self.assertTrue(read, f"{name}: {child.id}")
+
     def names_in(self, node):
         """What a node names, and whether it binds that name."""
         if isinstance(node, ast.Name):

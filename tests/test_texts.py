@@ -303,6 +303,15 @@ class Refused(RefusalCase):
             self.assert_no_paper("door " + text + " 0 () none")
         self.assert_no_paper("door a 0 (" + "b copy text, " * many + "c copy text) none")
 
+    def test_deep_behind_the_first_field_or_place(self):
+        for step, end in (("rec (a text, b ", ")"), ("pick (a text, b row ", ")"), ("row ", "")):
+            for many in (5, 6, 20, 100000):
+                deeper = step * many + "text" + end * many
+                self.assert_neither(deeper)
+                self.assert_no_kind(f"rec (a text, b {deeper})")
+                self.assert_no_paper(f"door a 0 (b copy text, c copy {deeper}) none")
+                self.assert_no_paper(f"door a 0 (b copy text) {deeper}")
+
     def test_line_feeds_and_other_signs(self):
         for sign in SIGNS:
             for text, refused in ((KIND, self.assert_no_kind), (PAPER, self.assert_no_paper)):
