@@ -106,3 +106,13 @@ class GlueCase(LaidCase):
                 forms[address] = (hand, model.layings[hand], kind, address, worth)
         self.assert_stand(store, [], *forms.values())
         self.assertEqual(keeper.book(), model.rows)
+
+    def assert_few_turns(self, book):
+        """Of each thing no more than one turn stands between two changes (puts and growings)."""
+        turned = set()
+        for row in book:
+            if row[0] == "turn":
+                self.assertNotIn(row[2], turned)
+                turned.add(row[2])
+            elif row[0] in ("put", "grow"):
+                turned.discard(row[2])

@@ -1,6 +1,6 @@
 """How the tests look at runs: the plain one and those over words, side by side."""
 
-from laying import LaidCase
+from glueing import GlueCase
 from tonguegate.gate import run_glued
 from tonguegate.layings import all_layings
 from tonguegate.runs import run_plain
@@ -19,7 +19,7 @@ def untold(book):
     return [row for row in book if row[0] not in ("turn", "split")]
 
 
-class RunCase(LaidCase):
+class RunCase(GlueCase):
 
     def assert_words_as_plain(self, program, layings, door, worths, steps, plain):
         """The run over words tells what the plain one told, and gives each block back: what it told."""
@@ -37,16 +37,6 @@ class RunCase(LaidCase):
         self.assert_least_places(60000, book)
         kinds = [row[0] for row in book]
         self.assertEqual(kinds.count("take"), kinds.count("give"))
-
-    def assert_few_turns(self, book):
-        """Of each thing no more than one turn stands between two changes."""
-        turned = set()
-        for row in book:
-            if row[0] == "turn":
-                self.assertNotIn(row[2], turned)
-                turned.add(row[2])
-            elif row[0] in ("put", "grow"):
-                turned.discard(row[2])
 
     def run_all(self, program, door="main", worths=(), steps=1000):
         """What the plain run tells; the runs over words are looked at beside it."""

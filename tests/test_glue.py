@@ -365,16 +365,6 @@ class Deeds(GlueCase):
             self.assertEqual(getattr(self.keeper, deed)(*handed), expected)
         self.assert_as_model(self.keeper, self.store, self.model)
 
-    def assert_few_turns(self, book):
-        """Of each thing no more than one turn stands between two changes (puts and growings)."""
-        turned = set()
-        for row in book:
-            if row[0] == "turn":
-                self.assertNotIn(row[2], turned)
-                turned.add(row[2])
-            elif row[0] in ("put", "grow"):
-                turned.discard(row[2])
-
     def test_deeds_by_chance_with_all_pairs(self):
         for seed, layings in enumerate(all_pairs()):
             chance = random.Random(seed)
